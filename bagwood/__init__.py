@@ -1,0 +1,1 @@
+"""Bagwood: places joined by ties, and trees of bags."""
