@@ -4,31 +4,14 @@ import unittest
 from bagwood.bags import fault, meeting, rooted, sides, width
 from bagwood.errors import NoBag
 from bagwood.graphs import graph, is_joined, touch
-from tests.helper import BIG, all_graphs, all_pairs, check_refused, subsets
+from tests.helper import (BIG, all_graphs, all_pairs, check_refused, neighbour_pairs, row_is_as_told, rows_of,
+                          small_trees, subsets, way)
 
 PATH = graph(10, [(v, v + 1) for v in range(9)])
 ROW = [(None, [0, 1])] + [(k - 1, [k, k + 1]) for k in range(1, 9)]
 STAR = graph(10, [(0, v) for v in range(1, 10)])
 MANY = [(None, [0])] + [(0, [0, v]) for v in range(1, 10)]
 MIXED = [(None, [0, 1]), (0, [1, 2]), (0, [0, 3]), (1, [2, 4]), (1, [1, 2, 5]), (2, [3]), (3, [])]
-
-
-def way(rows, j, k):
-    """The bags from j to k along neighbours, both among them."""
-    ups = {}
-    for start in (j, k):
-        ups[start] = [start]
-        while rows[ups[start][-1]][0] is not None:
-            ups[start].append(rows[ups[start][-1]][0])
-    shared = [one for one in ups[j] if one in ups[k]]
-    return [one for one in ups[j] + ups[k] if one not in shared] + shared[:1]
-
-
-def row_is_as_told(n, rows, k):
-    up, places = rows[k]
-    if (up is not None) if k == 0 else (up not in range(k)):
-        return False
-    return places == sorted(set(places)) and all(v in range(n) for v in places)
 
 
 def right_fault(g, rows):
@@ -48,23 +31,6 @@ def right_fault(g, rows):
             j = holding[0]
             return ("apart", v, j, [k for k in holding if k > j and v not in rows[rows[k][0]][1]][0])
     return None
-
-
-def rows_of(bags):
-    """Every tree that has these bags in this order."""
-    ups = [[None]] + [list(range(k)) for k in range(1, len(bags))]
-    return [[(up, list(bag)) for up, bag in zip(chosen, bags)] for chosen in itertools.product(*ups)]
-
-
-def small_trees(n, most):
-    """Every list of rows as told, of places from 0 to n - 1."""
-    every = subsets(range(n))
-    return [rows for size in range(1, most + 1) for bags in itertools.product(every, repeat=size)
-            for rows in rows_of(bags)]
-
-
-def neighbour_pairs(rows):
-    return sorted(sorted([row[0], k]) for k, row in enumerate(rows) if row[0] is not None)
 
 
 class Fault(unittest.TestCase):

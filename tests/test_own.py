@@ -1,9 +1,13 @@
 import unittest
 
 from bagwood.bags import fault, meeting, rooted, sides, width
+from bagwood.families import cover, family, flaw, grown, settled
 from bagwood.graphs import all_tied, around, graph, is_joined, pieces, rim, touch
+from bagwood.least import costs, least_order, least_tree, least_width, start
+from bagwood.orders import filled, is_perfect, later, order_of, order_width, reached, tree_of
 from bagwood.places import common, is_set, is_whole, joint, less
-from tests.helper import PETERSEN, check_own, subsets
+from bagwood.tidy import tidied
+from tests.helper import PETERSEN, check_own, mixed_graphs, subsets
 
 
 def fresh_graph():
@@ -56,6 +60,50 @@ class Own(unittest.TestCase):
             for row in range(1, len(tree)):
                 check_own(self, sides, fresh_trees()[k], row)
 
+    def test_tidied(self):
+        for tree in fresh_trees() + [[(None, []), (0, [0]), (1, [0, 1]), (2, [0, 1])]]:
+            check_own(self, tidied, tree)
+
+    def test_orders(self):
+        for k, g in enumerate(mixed_graphs()):
+            order = list(range(g[0]))[::-1]
+            for asked in (later, order_width, filled, is_perfect, tree_of):
+                check_own(self, asked, mixed_graphs()[k], list(order))
+            check_own(self, order_of, mixed_graphs()[k], tree_of(g, order))
+        for gone in ([], [1], [0, 1, 2, 4, 9]):
+            check_own(self, reached, fresh_graph(), gone, 7)
+
+    def test_orders_that_fill_nothing(self):
+        check_own(self, filled, (3, [(0, 1), (1, 2)]), [0, 1, 2])
+        check_own(self, filled, (0, []), [])
+
+    def test_least(self):
+        for k in range(len(mixed_graphs())):
+            for asked in (costs, least_width, least_order, least_tree):
+                check_own(self, asked, mixed_graphs()[k])
+        for places in ([], [3], [0, 2, 3, 7], list(range(10))):
+            check_own(self, start, fresh_graph(), list(places))
+
+    def test_families(self):
+        for k in range(len(mixed_graphs())):
+            for asked in (family, settled):
+                check_own(self, asked, mixed_graphs()[k])
+        for sets in ([], [[0]], [[0, 1], [0, 1], [1]], [[0, 1], [3]], [[0, 2]], [[9, 7], []]):
+            check_own(self, flaw, fresh_graph(), sets)
+        for sets in ([], [[3]], [[0, 1], [1, 2], [1, 2]], [[4, 5, 6], [7], [8, 9]]):
+            check_own(self, cover, sets)
+
+    def test_grown(self):
+        whole = family(fresh_graph())
+        for sets in ([], whole[:1], whole[:5] + whole[:2], whole):
+            self.assertEqual(grown(fresh_graph(), sets)[0], "family")
+            check_own(self, grown, fresh_graph(), [list(part) for part in sets])
+        # With the three around it, the place 0 meets all that touches it: four places, as the width is.
+        self.assertEqual(grown(fresh_graph(), [[0]])[0], "order")
+        check_own(self, grown, fresh_graph(), [[0]])
+        check_own(self, grown, (4, [(0, 1), (1, 2)]), [[3]])
+        check_own(self, grown, (0, []), [])
+
     def test_faulty_rows(self):
         for rows in ([], [(0, [0])], [(None, [2, 1])], [(None, [0, 0]), (5, [99])]):
             check_own(self, fault, (3, [(0, 1)]), rows)
@@ -69,6 +117,10 @@ class Own(unittest.TestCase):
         first, second = sides([(None, bag), (0, bag)], 1)
         first.append(2)
         self.assertEqual((first, second, bag), ([0, 1, 2], [0, 1], [0, 1]))
+        part = [0]
+        kind, sets = grown((2, [(0, 1)]), [part, part])
+        sets[0].append(1)
+        self.assertEqual((kind, sets[:2], part), ("family", [[0, 1], [0]], [0]))
 
     def test_what_was_asked_before_hinders_nothing(self):
         g = fresh_graph()
@@ -76,6 +128,20 @@ class Own(unittest.TestCase):
         g[1].remove((0, 1))
         self.assertEqual(before, [[0, 1], [3]])
         self.assertEqual(pieces(g, [0, 1, 3]), [[0], [1], [3]])
+        tree = [(None, [0, 1]), (0, [2])]
+        before = tidied(tree)
+        tree[0][1].append(2)
+        self.assertEqual(before, [(None, [0, 1]), (0, [2])])
+        self.assertEqual(tidied(tree), [(None, [0, 1, 2])])
+
+    def test_a_graph_changed_behind_the_call_is_asked_anew(self):
+        g = (4, [(0, 1), (0, 2), (0, 3), (1, 2), (1, 3), (2, 3)])
+        before = settled(g)
+        self.assertEqual((before[0], least_width(g), costs(g)[1]), (3, 3, 3))
+        g[1].clear()
+        self.assertEqual((before[0], before[1]), (3, [(None, [0, 1, 2, 3])]))
+        self.assertEqual((settled(g)[0], least_width(g), costs(g)[1]), (0, 0, 0))
+        self.assertEqual((later(g, [0, 1, 2, 3]), reached(g, [], 0)), ([[], [], [], []], []))
 
 
 if __name__ == "__main__":
