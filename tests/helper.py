@@ -5,6 +5,7 @@ import itertools
 import random
 
 from bagwood.graphs import graph
+from bagwood.tables import answer, tables, trail
 
 BIG = 10 ** 60 - 1
 PETERSEN = [(0, 1), (1, 2), (2, 3), (3, 4), (0, 4), (0, 5), (1, 6), (2, 7), (3, 8), (4, 9),
@@ -132,6 +133,219 @@ def small_trees(n, most):
 
 def neighbour_pairs(rows):
     return sorted(sorted([row[0], k]) for k, row in enumerate(rows) if row[0] is not None)
+
+
+def drawn_world(chance, n, many, most):
+    """A graph of n places and a tree of bags of it, of so many rows (or more), no bag of more places than most."""
+    ups = [None] + [chance.randrange(k) for k in range(1, many)]
+    bags = [[] for up in ups]
+    for v in range(n):
+        free = [k for k, bag in enumerate(bags) if len(bag) < most]
+        if not free:
+            ups.append(chance.randrange(len(ups)))
+            bags.append([])
+            free = [len(bags) - 1]
+        reach = [chance.choice(free)]
+        while reach:
+            k = reach.pop(chance.randrange(len(reach)))
+            bags[k].append(v)
+            near = [j for j, up in enumerate(ups) if up == k or ups[k] == j]
+            reach += [j for j in near if len(bags[j]) < most and v not in bags[j] and j not in reach
+                      and chance.random() < 0.5]
+    rows = [(up, sorted(bag)) for up, bag in zip(ups, bags)]
+    within = sorted(set(pair for bag in bags for pair in itertools.combinations(sorted(bag), 2)))
+    return graph(n, chance.sample(within, chance.choice([len(within), len(within) * 2 // 3, 0]))), rows
+
+
+def drawn_worlds(seed, many, n, rows, most):
+    chance = random.Random(seed)
+    return [drawn_world(chance, chance.randint(0, n), chance.randint(1, rows), most) for one in range(many)]
+
+
+def drawn_steps(chance, g, rows):
+    """Steps that fit, along the tree: with branches and joins more than it has, and ties brought anywhere."""
+    homes = [[] for row in rows]
+    for tie in g[1]:
+        homes[chance.choice([k for k, row in enumerate(rows) if set(tie) <= set(row[1])])].append(("tie",) + tie)
+
+    def moved(lower, upper):
+        outs = [("out", v) for v in lower if v not in upper]
+        ins = [("in", v) for v in upper if v not in lower]
+        chance.shuffle(outs)
+        chance.shuffle(ins)
+        mixed = chance.sample(outs + ins, len(outs + ins))
+        return mixed if len(set(lower) | set(upper)) <= 4 else outs + ins
+
+    def climbed(k):
+        bag = rows[k][1]
+        branches = [climbed(j) + moved(row[1], bag) for j, row in enumerate(rows) if row[0] == k]
+        while not branches or chance.random() < 0.2:
+            branches.append([("leaf",)] + moved([], bag))
+        for tie in homes[k]:
+            chance.choice(branches).append(tie)
+        steps = []
+        waiting = 0
+        for branch in branches:
+            steps += branch
+            waiting += 1
+            while waiting > 1 and (branch is branches[-1] or chance.random() < 0.5):
+                steps.append(("join",))
+                waiting -= 1
+        return steps
+
+    return climbed(0) + moved(rows[0][1], [])
+
+
+def slow_run(g, steps):
+    """The pile behind each step by the words of point 30, and None from the first step on that cannot be done.
+
+    A bag is told as (places, places beneath, ties beneath, number of the step that laid it).
+    """
+    piles = [[]]
+    for k, step in enumerate(steps):
+        pile = list(piles[-1])
+        need = {"leaf": 0, "join": 2}.get(step[0], 1)
+        if len(pile) < need:
+            return piles[1:] + [None]
+        used = [pile.pop() for one in range(need)]
+        bag, places, ties = ([], [], []) if not used else used[0][:3]
+        if step[0] == "in":
+            can = step[1] in range(g[0]) and step[1] not in bag and ("out", step[1]) not in steps[:k]
+            bag, places = sorted(bag + [step[1]]), sorted(places + [step[1]])
+        elif step[0] == "out":
+            can = step[1] in bag and steps[:k].count(step) == 0
+            bag = [v for v in bag if v != step[1]]
+        elif step[0] == "tie":
+            can = step[1:] in g[1] and set(step[1:]) <= set(bag) and steps[:k].count(step) == 0
+            ties = sorted(ties + [step[1:]])
+        elif step[0] == "join":
+            can = bag == used[1][0]
+            places, ties = sorted(set(places + used[1][1])), sorted(ties + used[1][2])
+        else:
+            can = True
+        if not can:
+            return piles[1:] + [None]
+        piles.append(pile + [(bag, places, ties, k)])
+    return piles[1:]
+
+
+def slow_steps_fault(g, steps):
+    piles = slow_run(g, steps)
+    if None in piles:
+        return ("step", piles.index(None))
+    if not piles or [bag[0] for bag in piles[-1]] != [[]]:
+        return ("pile",)
+    for v in range(g[0]):
+        if not any(step[0] == "in" and step[1] == v for step in steps):
+            return ("place", v)
+    for tie in g[1]:
+        if not any(step[0] == "tie" and step[1:] == tie for step in steps):
+            return ("tie",) + tie
+    return None
+
+
+def slow_tops(g, steps):
+    """Behind each step the top bag, the places beneath and the ties beneath."""
+    return [pile[-1][:3] for pile in slow_run(g, steps)]
+
+
+class SlowColours:
+    """Points 33 and 34 word by word: a part-thing is a dict from places to colours."""
+
+    best = min
+
+    def __init__(self, g, many, weights=None):
+        self.many = many
+        self.weights = weights or [1] * g[0]
+
+    def parts(self, bag, places, ties):
+        every = [dict(zip(places, some)) for some in itertools.product(range(self.many), repeat=len(places))]
+        return [part for part in every if all(part[a] != part[b] for a, b in ties)]
+
+    def state(self, part, bag, ties):
+        return tuple(part[v] for v in bag)
+
+    def amount(self, part, bag):
+        return sum(self.weights[v] * part[v] for v in part if v not in bag)
+
+    def cut(self, part, places, ties):
+        return {v: part[v] for v in places}
+
+    def told(self, part):
+        return [part[v] for v in sorted(part)]
+
+
+class SlowApart:
+    best = max
+
+    def __init__(self, g, weights=None):
+        self.weights = weights or [1] * g[0]
+
+    def parts(self, bag, places, ties):
+        return [part for part in subsets(places) if not any(a in part and b in part for a, b in ties)]
+
+    def state(self, part, bag, ties):
+        return tuple(int(v in part) for v in bag)
+
+    def amount(self, part, bag):
+        return sum(self.weights[v] for v in part if v not in bag)
+
+    def cut(self, part, places, ties):
+        return [v for v in part if v in places]
+
+    def told(self, part):
+        return part
+
+
+class SlowWatch(SlowApart):
+    best = min
+
+    def parts(self, bag, places, ties):
+        return [part for part in subsets(places)
+                if all(self.look(part, v, ties) > 0 for v in places if v not in bag)]
+
+    def look(self, part, v, ties):
+        over = [u for u in part if (u, v) in ties or (v, u) in ties]
+        return 2 if v in part else 1 if over else 0
+
+    def state(self, part, bag, ties):
+        return tuple(self.look(part, v, ties) for v in bag)
+
+
+def check_tables(test, slow, question, g, steps):
+    """The tables and the trail along the steps against a count of all part-things behind each of them."""
+    told = tables(steps, question)
+    test.assertEqual(len(told), len(steps))
+    tops = slow_tops(g, steps)
+    for table, (bag, places, ties) in zip(told, tops):
+        right = {}
+        for part in slow.parts(bag, places, ties):
+            right.setdefault(slow.state(part, bag, ties), []).append(slow.amount(part, bag))
+        test.assertEqual(table, {state: (len(some), slow.best(some)) for state, some in right.items()}, (g, steps))
+    wholes = slow.parts(*tops[-1])
+    states = trail(steps, question)
+    if not wholes:
+        test.assertIsNone(states)
+        return
+    best = slow.best(slow.amount(part, []) for part in wholes)
+    test.assertIn(states, [[slow.state(slow.cut(part, places, ties), bag, ties) for bag, places, ties in tops]
+                           for part in wholes if slow.amount(part, []) == best], (g, steps))
+    for table, state in zip(told, states):
+        test.assertIn(state, table)
+
+
+def check_answer(test, slow, question, g, tree):
+    """An answer against a count of all things."""
+    wholes = slow.parts([], list(range(g[0])), g[1])
+    told = answer(tree, question)
+    if not wholes:
+        test.assertEqual(told, (0, None, None))
+        return told
+    best = slow.best(slow.amount(part, []) for part in wholes)
+    test.assertEqual(told[:2], (len(wholes), best), (g, tree))
+    test.assertIn(told[2], [slow.told(part) for part in wholes if slow.amount(part, []) == best], (g, tree))
+    test.assertIsInstance(told, tuple)
+    return told
 
 
 def lists_in(thing):

@@ -1,13 +1,19 @@
+import copy
+import random
 import unittest
 
+from bagwood.asks import Apart, Colours, Watch
 from bagwood.bags import fault, meeting, rooted, sides, width
 from bagwood.families import cover, family, flaw, grown, settled
 from bagwood.graphs import all_tied, around, graph, is_joined, pieces, rim, touch
 from bagwood.least import costs, least_order, least_tree, least_width, start
+from bagwood.low import folds, four, wood
 from bagwood.orders import filled, is_perfect, later, order_of, order_width, reached, tree_of
 from bagwood.places import common, is_set, is_whole, joint, less
+from bagwood.steps import bags_of, steps_fault, steps_of
+from bagwood.tables import answer, tables, trail
 from bagwood.tidy import tidied
-from tests.helper import PETERSEN, check_own, mixed_graphs, subsets
+from tests.helper import PETERSEN, check_own, drawn_steps, drawn_worlds, mixed_graphs, spoil, subsets
 
 
 def fresh_graph():
@@ -21,6 +27,10 @@ def fresh_trees():
         [(None, [0, 1]), (0, [1, 2]), (1, [2, 3]), (0, [0, 4])],
         [(None, [0]), (0, [0]), (0, []), (2, []), (1, [0, 5])],
     ]
+
+
+def drawn_questions(g, weights):
+    return [Colours(g, 3, weights), Apart(g, weights), Watch(g, weights)]
 
 
 class Own(unittest.TestCase):
@@ -103,6 +113,65 @@ class Own(unittest.TestCase):
         check_own(self, grown, fresh_graph(), [[0]])
         check_own(self, grown, (4, [(0, 1), (1, 2)]), [[3]])
         check_own(self, grown, (0, []), [])
+
+    def test_low(self):
+        for k in range(len(mixed_graphs())):
+            for asked in (wood, folds, four):
+                check_own(self, asked, mixed_graphs()[k])
+
+    def test_steps(self):
+        chance = random.Random(2)
+        for g, rows in drawn_worlds(2, 40, 8, 8, 4):
+            steps = drawn_steps(chance, g, rows)
+            check_own(self, steps_of, copy.deepcopy(g), rows)
+            check_own(self, bags_of, copy.deepcopy(g), list(steps))
+            for some in (list(steps), steps[1:], steps[:-1], []):
+                check_own(self, steps_fault, copy.deepcopy(g), some)
+        check_own(self, steps_of, (0, []), [(None, [])])
+        check_own(self, bags_of, (0, []), [("leaf",), ("leaf",), ("join",)])
+
+    def test_questions(self):
+        chance = random.Random(3)
+        for g, rows in drawn_worlds(3, 25, 6, 8, 4):
+            steps = drawn_steps(chance, g, rows)
+            weights = [chance.randint(0, 9) for v in range(g[0])]
+            for kind in range(3):
+                for asked in (tables, trail):
+                    check_own(self, lambda g, steps, weights: asked(steps, drawn_questions(g, weights)[kind]),
+                              copy.deepcopy(g), list(steps), list(weights))
+                check_own(self, lambda g, rows, weights: answer(rows, drawn_questions(g, weights)[kind]),
+                          copy.deepcopy(g), copy.deepcopy(rows), list(weights))
+
+    def test_one_question_asked_again(self):
+        chance = random.Random(4)
+        for g, rows in drawn_worlds(4, 25, 6, 8, 4):
+            steps = drawn_steps(chance, g, rows)
+            for question in drawn_questions(g, [chance.randint(0, 9) for v in range(g[0])]):
+                for asked in (tables, trail):
+                    check_own(self, lambda steps: asked(steps, question), list(steps))
+                check_own(self, lambda rows: answer(rows, question), copy.deepcopy(rows))
+
+    def test_a_question_keeps_its_graph_and_weights(self):
+        for kind in range(3):
+            g, weights = (3, [(0, 1), (1, 2)]), [4, 5, 6]
+            rows = [(None, [0, 1]), (0, [1, 2])]
+            steps = steps_of(g, rows)
+            question = drawn_questions(g, weights)[kind]
+            before = (answer(rows, question), tables(steps, question), trail(steps, question))
+            self.assertEqual((g, weights), ((3, [(0, 1), (1, 2)]), [4, 5, 6]))
+            g[1].append((0, 2))
+            weights[1] = 0
+            self.assertEqual((answer(rows, question), tables(steps, question), trail(steps, question)), before)
+            spoil(g)
+            spoil(weights)
+            self.assertEqual((answer(rows, question), tables(steps, question), trail(steps, question)), before)
+
+    def test_two_questions_of_one_graph(self):
+        g, weights = (2, [(0, 1)]), [4, 5]
+        rows = [(None, [0, 1])]
+        one, other = Apart(g, weights), Apart(g, [9, 1])
+        self.assertEqual((answer(rows, one), answer(rows, other), answer(rows, one)),
+                         ((3, 5, [1]), (3, 9, [0]), (3, 5, [1])))
 
     def test_faulty_rows(self):
         for rows in ([], [(0, [0])], [(None, [2, 1])], [(None, [0, 0]), (5, [99])]):
