@@ -21,12 +21,32 @@ def weights_of(many, weights):
     return list(weights)
 
 
+def costs_of(ties, costs):
+    return dict(zip(ties, weights_of(len(ties), costs)))
+
+
 def with_number(state, spot, number):
     return state[:spot] + (number,) + state[spot:]
 
 
 def without_number(state, spot):
     return state[:spot] + state[spot + 1:]
+
+
+def renumbered(numbers):
+    """The numbers above 0 told anew, from 1 on as they are met; the others stay."""
+    met = {}
+    for number in numbers:
+        if number > 0:
+            met.setdefault(number, len(met) + 1)
+    return tuple([met.get(number, number) for number in numbers])
+
+
+def ties_taken(steps, states):
+    """The ties by which the trail's states change; where each tie that a thing takes changes its state, just these."""
+    # The bag on which a tie works was laid by the step ahead of it.
+    spots = [k for k, step in enumerate(steps) if step[0] == "tie" and states[k] != states[k - 1]]
+    return sorted([steps[k][1:] for k in spots])
 
 
 def numbers_put_in(n, steps, tops, states):
@@ -38,21 +58,16 @@ def numbers_put_in(n, steps, tops, states):
     return told
 
 
+# What is told of joins here is right where a state is a choice for each place of the bag and nothing else.
 class Question:
-    """What all questions have; their own is as it is where a state is a choice for each place of the bag."""
-
-    def __init__(self, graph):
+    def __init__(self, graph, leaf, whole):
         self.graph = (graph[0], list(graph[1]))
+        # The state behind a leaf, and that of whole things behind the last step.
+        self.leaf = leaf
+        self.whole = whole
 
     def is_better(self, one, other):
         return one < other
-
-    def leaf_state(self):
-        return ()
-
-    def whole_state(self):
-        """The state of whole things behind the last step."""
-        return ()
 
     def shared(self, state):
         """That in which the states of two bags must be alike for a join of them."""
@@ -66,7 +81,7 @@ class Colours(Question):
     def __init__(self, graph, many, weights=None):
         if not is_below(MOST_COLOURS + 1, many):
             raise NoColours("the number of colours is no whole number from 0 to 4")
-        Question.__init__(self, graph)
+        Question.__init__(self, graph, (), ())
         self.many = many
         self.weights = weights_of(graph[0], weights)
 
@@ -85,7 +100,7 @@ class Colours(Question):
 
 class Apart(Question):
     def __init__(self, graph, weights=None):
-        Question.__init__(self, graph)
+        Question.__init__(self, graph, (), ())
         self.weights = weights_of(graph[0], weights)
 
     def is_better(self, one, other):
@@ -107,7 +122,7 @@ class Apart(Question):
 
 class Watch(Question):
     def __init__(self, graph, weights=None):
-        Question.__init__(self, graph)
+        Question.__init__(self, graph, (), ())
         self.weights = weights_of(graph[0], weights)
 
     def shared(self, state):

@@ -15,14 +15,14 @@ def without_sources(table):
 
 def trail(steps, question):
     tops, feeds = run_narrow(question.graph, steps)
-    return states_down(feeds, going_up(steps, question, tops, feeds), question.whole_state())
+    return states_down(feeds, going_up(steps, question, tops, feeds), question.whole)
 
 
 def answer(tree, question):
     steps = steps_of(question.graph, tree)
     tops, feeds = run_whole(question.graph, steps)
     told = going_up(steps, question, tops, feeds)
-    states = states_down(feeds, told, question.whole_state())
+    states = states_down(feeds, told, question.whole)
     if states is None:
         return (0, None, None)
     many, best, sources = told[-1][states[-1]]
@@ -44,7 +44,7 @@ def going_up(steps, question, tops, feeds):
     for step, bag, used in zip(steps, tops, feeds):
         table = {}
         if not used:
-            table[question.leaf_state()] = (1, 0, ())
+            table[question.leaf] = (1, 0, ())
         elif step[0] == "join":
             fill_joined(question, table, told[used[0]], told[used[1]])
         else:

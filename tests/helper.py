@@ -27,6 +27,26 @@ def all_graphs(most):
     return [(n, ties) for n in range(most + 1) for ties in subsets(all_pairs(n))]
 
 
+def drawn_graphs(seed, many, least, dense):
+    """Graphs of so many places or more, up to 10; the ties of each are as many as chance says, but so dense at most."""
+    chance = random.Random(seed)
+    told = []
+    for one in range(many):
+        n = chance.randint(least, 10)
+        pairs = all_pairs(n)
+        told.append(graph(n, chance.sample(pairs, chance.randint(0, min(len(pairs), dense * n)))))
+    return told
+
+
+def wrong_amounts(many):
+    """Lists that are no weights or costs where so many are asked for."""
+    good = [0] * many
+    wrong = [good + [1], good + [0, 0]] + ([good[:-1], []] if many else [])
+    for k in range(many):
+        wrong += [good[:k] + [bad] + good[k + 1:] for bad in (-1, 10 ** 30, 10 ** 30 + 1, BIG, -BIG)]
+    return wrong
+
+
 def great_graphs():
     path = [(v, v + 1) for v in range(9)]
     return [graph(10, pairs) for pairs in
@@ -162,6 +182,28 @@ def drawn_worlds(seed, many, n, rows, most):
     return [drawn_world(chance, chance.randint(0, n), chance.randint(1, rows), most) for one in range(many)]
 
 
+def dense_world(chance, n, most, fewer):
+    """A graph of n places with nearly all ties that a tree of bags of so many places has room for, and such a tree.
+
+    Some bags stand there twice, so that their ties can come from several sides.
+    """
+    names = chance.sample(range(n), n)
+    rows = [(None, sorted(names[:most]))]
+    for v in names[most:]:
+        up = chance.randrange(len(rows))
+        rows.append((up, sorted(chance.sample(rows[up][1], most - 1) + [v])))
+    for one in range(chance.randint(0, 3)):
+        up = chance.randrange(len(rows))
+        rows.append((up, list(rows[up][1])))
+    ties = sorted(set(pair for up, bag in rows for pair in itertools.combinations(bag, 2)))
+    return graph(n, chance.sample(ties, max(0, len(ties) - chance.randint(0, fewer)))), rows
+
+
+def dense_worlds(seed, many, least, n, most, fewer):
+    chance = random.Random(seed)
+    return [dense_world(chance, chance.randint(least, n), most, fewer) for one in range(many)]
+
+
 def drawn_steps(chance, g, rows):
     """Steps that fit, along the tree: with branches and joins more than it has, and ties brought anywhere."""
     homes = [[] for row in rows]
@@ -274,6 +316,9 @@ class SlowColours:
     def told(self, part):
         return [part[v] for v in sorted(part)]
 
+    def wholes(self, places, ties):
+        return self.parts([], places, ties)
+
 
 class SlowApart:
     best = max
@@ -296,6 +341,9 @@ class SlowApart:
     def told(self, part):
         return part
 
+    def wholes(self, places, ties):
+        return self.parts([], places, ties)
+
 
 class SlowWatch(SlowApart):
     best = min
@@ -312,6 +360,122 @@ class SlowWatch(SlowApart):
         return tuple(self.look(part, v, ties) for v in bag)
 
 
+def grouped(places, ties):
+    """The pieces into which these ties join these places."""
+    groups = [{v} for v in places]
+    for a, b in ties:
+        met = [group for group in groups if a in group or b in group]
+        groups = [group for group in groups if group not in met] + [set().union(*met)]
+    return groups
+
+
+def has_no_ring(places, ties):
+    return len(grouped(places, ties)) == len(places) - len(ties)
+
+
+class SlowLinks:
+    """Points 37 and 38 word by word: a part-thing is a tuple of its places and its ties."""
+
+    best = min
+
+    def __init__(self, g, told, costs=None):
+        self.must = told
+        self.costs = dict(zip(g[1], costs or [1] * len(g[1])))
+
+    def parts(self, bag, places, ties):
+        found = []
+        for some in subsets(ties):
+            ends = sorted(set(v for tie in some for v in tie))
+            if has_no_ring(ends, some):
+                for more in subsets([v for v in places if v not in ends]):
+                    part = (sorted(ends + more), some)
+                    if all(v in part[0] for v in self.must if v in places) and self.is_good(part, bag):
+                        found.append(part)
+        return found
+
+    def is_good(self, part, bag):
+        return self.is_closed(part, bag) or all(group & set(bag) for group in grouped(*part))
+
+    def is_closed(self, part, bag):
+        return len(grouped(*part)) == 1 and not set(part[0]) & set(bag)
+
+    def state(self, part, bag, ties):
+        if self.is_closed(part, bag):
+            return (1,) + (0,) * len(bag)
+        groups = grouped(*part)
+        met = []
+        state = [0]
+        for v in bag:
+            home = [group for group in groups if v in group]
+            met += [group for group in home if group not in met]
+            state.append(met.index(home[0]) + 1 if home else 0)
+        return tuple(state)
+
+    def amount(self, part, bag):
+        return sum(self.costs[tie] for tie in part[1])
+
+    def cut(self, part, places, ties):
+        return [v for v in part[0] if v in places], [tie for tie in part[1] if tie in ties]
+
+    def told(self, part):
+        return sorted(part[1])
+
+    def wholes(self, places, ties):
+        return [part for part in self.parts([], places, ties) if self.is_closed(part, [])]
+
+
+class SlowRounds:
+    """Points 39 and 40 word by word: a part-thing is a tuple of the places beneath and its ties."""
+
+    best = min
+
+    def __init__(self, g, costs=None):
+        self.costs = dict(zip(g[1], costs or [1] * len(g[1])))
+
+    def ends(self, part, v):
+        return sum(v in tie for tie in part[1])
+
+    def parts(self, bag, places, ties):
+        every = [(places, some) for some in subsets(ties)]
+        return [part for part in every if self.is_closed(part) or self.is_open(part, bag)]
+
+    def is_open(self, part, bag):
+        return has_no_ring(*part) and all(self.ends(part, v) <= 2 if v in bag else self.ends(part, v) == 2
+                                          for v in part[0])
+
+    def is_closed(self, part):
+        return (len(part[0]) >= 3 and all(self.ends(part, v) == 2 for v in part[0])
+                and len(grouped(*part)) == 1)
+
+    def state(self, part, bag, ties):
+        if self.is_closed(part):
+            return (1,) + (-1,) * len(bag)
+        groups = grouped(*part)
+        met = []
+        state = [0]
+        for v in bag:
+            home = [group for group in groups if v in group][0]
+            if self.ends(part, v) == 1 and home not in met:
+                met.append(home)
+            state.append({0: 0, 2: -1}.get(self.ends(part, v)) if self.ends(part, v) != 1 else met.index(home) + 1)
+        return tuple(state)
+
+    def amount(self, part, bag):
+        return sum(self.costs[tie] for tie in part[1])
+
+    def cut(self, part, places, ties):
+        return places, [tie for tie in part[1] if tie in ties]
+
+    def told(self, part):
+        turn = [0]
+        while len(turn) < len(part[0]):
+            turn.append(min(v for v in part[0] if v not in turn and are_tied((0, part[1]), turn[-1], v)))
+        return turn
+
+    def wholes(self, places, ties):
+        return [part for part in self.parts([], places, ties) if self.is_closed(part)]
+
+
 def check_tables(test, slow, question, g, steps):
     """The tables and the trail along the steps against a count of all part-things behind each of them."""
     told = tables(steps, question)
@@ -322,7 +486,7 @@ def check_tables(test, slow, question, g, steps):
         for part in slow.parts(bag, places, ties):
             right.setdefault(slow.state(part, bag, ties), []).append(slow.amount(part, bag))
         test.assertEqual(table, {state: (len(some), slow.best(some)) for state, some in right.items()}, (g, steps))
-    wholes = slow.parts(*tops[-1])
+    wholes = slow.wholes(*tops[-1][1:])
     states = trail(steps, question)
     if not wholes:
         test.assertIsNone(states)
@@ -336,7 +500,7 @@ def check_tables(test, slow, question, g, steps):
 
 def check_answer(test, slow, question, g, tree):
     """An answer against a count of all things."""
-    wholes = slow.parts([], list(range(g[0])), g[1])
+    wholes = slow.wholes(list(range(g[0])), g[1])
     told = answer(tree, question)
     if not wholes:
         test.assertEqual(told, (0, None, None))

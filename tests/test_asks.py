@@ -9,7 +9,7 @@ from bagwood.least import least_tree, least_width
 from bagwood.orders import tree_of
 from bagwood.tables import answer
 from tests.helper import (BIG, SlowApart, SlowColours, SlowWatch, all_graphs, all_pairs, check_answer, check_refused,
-                          drawn_worlds, great_graphs, mixed_graphs)
+                          drawn_worlds, great_graphs, mixed_graphs, wrong_amounts)
 
 MOST = 10 ** 30 - 1
 STAR = graph(10, [(0, v) for v in range(1, 10)])
@@ -132,16 +132,12 @@ class Questions(unittest.TestCase):
 
     def test_no_weights(self):
         for n in (0, 1, 3, 10):
-            good = [0] * n
-            wrong = [good + [1], good + [0, 0]] + ([good[:-1], []] if n else [])
-            for k in range(n):
-                wrong += [good[:k] + [bad] + good[k + 1:] for bad in (-1, 10 ** 30, 10 ** 30 + 1, BIG, -BIG)]
-            for weights in wrong:
+            for weights in wrong_amounts(n):
                 check_refused(self, NoWeights, Apart, (n, []), weights)
                 check_refused(self, NoWeights, Watch, (n, []), weights)
                 check_refused(self, NoWeights, Colours, (n, []), 3, weights)
                 check_refused(self, NoWeights, Colours, (n, []), 0, weights)
-            for weights in (good, [MOST] * n):
+            for weights in ([0] * n, [MOST] * n):
                 for question in (Apart((n, []), weights), Watch((n, []), weights), Colours((n, []), 1, weights)):
                     self.assertIsInstance(question, Question)
 

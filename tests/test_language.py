@@ -37,6 +37,13 @@ def own_names(kind):
     return [node.name for path in FILES for node in ast.walk(tree_of(path)) if isinstance(node, kind)]
 
 
+def top_names(path):
+    """What a file defines at its top: functions, classes, and names that are given a value."""
+    body = tree_of(path).body
+    return [one.name for one in body if hasattr(one, "name")] + [
+        one.targets[0].id for one in body if isinstance(one, ast.Assign)]
+
+
 class Language(unittest.TestCase):
     def each_node(self):
         for path in FILES:
@@ -111,9 +118,8 @@ class Language(unittest.TestCase):
                     package, dot, module = node.module.partition(".")
                     self.assertEqual((package, node.level), ("bagwood", 0), path)
                     drawn[path.stem].append(module)
-                    defined = [one.name for one in tree_of(PACKAGE / f"{module}.py").body if hasattr(one, "name")]
                     for alias in node.names:
-                        self.assertIn(alias.name, defined, path)
+                        self.assertIn(alias.name, top_names(PACKAGE / f"{module}.py"), path)
         while drawn:
             free = [stem for stem, modules in drawn.items() if not any(module in drawn for module in modules)]
             self.assertNotEqual(free, [], f"files that draw from one another: {sorted(drawn)}")
@@ -152,6 +158,42 @@ class Language(unittest.TestCase):
         for path, node, spot in self.each_node():
             if isinstance(node, ast.Call) and isinstance(node.func, ast.Attribute):
                 self.assertIn(node.func.attr, METHODS + own, spot)
+
+    def test_each_name_of_a_file_once(self):
+        for path in FILES:
+            names = top_names(path)
+            self.assertEqual(len(set(names)), len(names), path)
+
+    def test_no_name_is_a_method_and_a_value(self):
+        classes = [node for path, node, spot in self.each_node() if isinstance(node, ast.ClassDef)]
+        methods = [one.name for node in classes for one in node.body if isinstance(one, ast.FunctionDef)]
+        stored = [node.attr for path, node, spot in self.each_node()
+                  if isinstance(node, ast.Attribute) and isinstance(node.ctx, ast.Store)]
+        self.assertEqual(sorted(set(methods) & set(stored)), [])
+        for node in classes:
+            own = [one.name for one in node.body if isinstance(one, ast.FunctionDef)]
+            self.assertEqual(len(set(own)), len(own), node.name)
+            self.assertLessEqual(len(node.bases), 1, node.name)
+        # None of Python's own values has a method or a value that is called so.
+        python = [name for kind in (str, int, list, dict, set, bytes, tuple) for name in dir(kind)]
+        for name in methods + stored:
+            self.assertTrue(name == "__init__" or name not in python, name)
+
+    def test_sets_and_walks_stand_where_they_may(self):
+        walks = ("zip", "enumerate", "reversed", "range")
+        homes = ("list", "tuple", "dict", "sorted", "sum", "any", "all", "enumerate", "zip", "min", "max")
+        for path in FILES:
+            good = []
+            for node in ast.walk(tree_of(path)):
+                if isinstance(node, (ast.For, ast.comprehension)):
+                    good.append(ast.dump(node.iter))
+                if isinstance(node, ast.Call) and isinstance(node.func, ast.Name) and node.func.id in homes and node.args:
+                    good.append(ast.dump(node.args[0]))
+            for node in ast.walk(tree_of(path)):
+                called = node.func if isinstance(node, ast.Call) else None
+                if isinstance(called, ast.Name) and called.id in walks or (
+                        isinstance(called, ast.Attribute) and called.attr in ("items", "keys", "values")):
+                    self.assertIn(ast.dump(node), good, f"{path.name}:{node.lineno}")
 
     def test_is_stands_beside_none_and_truths(self):
         for path, node, spot in self.each_node():

@@ -5,21 +5,11 @@ import unittest
 from bagwood.graphs import graph, is_joined, touch
 from bagwood.least import least_width
 from bagwood.low import folds, four, wood
-from tests.helper import (PETERSEN, all_graphs, all_pairs, are_tied, great_graphs, has_way, mixed_graphs)
+from tests.helper import PETERSEN, all_graphs, all_pairs, are_tied, drawn_graphs, great_graphs, has_way, mixed_graphs
 
 
 def ring_of(n):
     return graph(n, [(v, (v + 1) % n) for v in range(n)])
-
-
-def drawn_graphs(many):
-    chance = random.Random(26)
-    told = []
-    for one in range(many):
-        n = chance.randint(4, 10)
-        pairs = all_pairs(n)
-        told.append(graph(n, chance.sample(pairs, chance.randint(n // 2, min(len(pairs), 2 * n)))))
-    return told
 
 
 def drawn_woods():
@@ -80,7 +70,7 @@ class Wood(unittest.TestCase):
             self.check(g)
 
     def test_greater_graphs(self):
-        for g in mixed_graphs()[:48] + drawn_woods() + drawn_graphs(60):
+        for g in mixed_graphs()[:48] + drawn_woods() + drawn_graphs(26, 60, 4, 2):
             self.check(g)
 
     def test_told_cases(self):
@@ -111,7 +101,7 @@ class Folds(unittest.TestCase):
             self.assertEqual(folds(g), slow_folds(g), g)
 
     def test_greater_graphs(self):
-        for g in mixed_graphs() + great_graphs() + drawn_woods() + drawn_graphs(300):
+        for g in mixed_graphs() + great_graphs() + drawn_woods() + drawn_graphs(26, 300, 4, 2):
             self.assertEqual(folds(g), slow_folds(g), g)
 
     def test_told_cases(self):
@@ -154,7 +144,7 @@ class Four(unittest.TestCase):
             self.check(g)
 
     def test_greater_graphs(self):
-        for g in mixed_graphs() + great_graphs() + drawn_graphs(400):
+        for g in mixed_graphs() + great_graphs() + drawn_graphs(26, 400, 4, 3):
             self.check(g)
 
     def test_told_cases(self):
@@ -171,7 +161,7 @@ class Four(unittest.TestCase):
 
 class LowWidths(unittest.TestCase):
     def test_woods_and_folds_go_by_the_least_width(self):
-        for g in all_graphs(5) + mixed_graphs() + great_graphs() + drawn_woods() + drawn_graphs(60):
+        for g in all_graphs(5) + mixed_graphs() + great_graphs() + drawn_woods() + drawn_graphs(26, 60, 4, 2):
             least = least_width(g)
             self.assertEqual(wood(g)[0] == "wood", least <= 1, g)
             self.assertEqual(folds(g)[1] == [], least <= 2, g)

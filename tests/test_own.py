@@ -4,16 +4,21 @@ import unittest
 
 from bagwood.asks import Apart, Colours, Watch
 from bagwood.bags import fault, meeting, rooted, sides, width
+from bagwood.desk import Desk
 from bagwood.families import cover, family, flaw, grown, settled
 from bagwood.graphs import all_tied, around, graph, is_joined, pieces, rim, touch
 from bagwood.least import costs, least_order, least_tree, least_width, start
+from bagwood.links import Links
 from bagwood.low import folds, four, wood
 from bagwood.orders import filled, is_perfect, later, order_of, order_width, reached, tree_of
 from bagwood.places import common, is_set, is_whole, joint, less
+from bagwood.rounds import Rounds
 from bagwood.steps import bags_of, steps_fault, steps_of
 from bagwood.tables import answer, tables, trail
+from bagwood.texts import read_bags, read_number, show_bags
 from bagwood.tidy import tidied
-from tests.helper import PETERSEN, check_own, drawn_steps, drawn_worlds, mixed_graphs, spoil, subsets
+from tests.helper import (PETERSEN, check_own, dense_worlds, drawn_steps, drawn_worlds, mixed_graphs, spoil,
+                          subsets)
 
 
 def fresh_graph():
@@ -29,8 +34,16 @@ def fresh_trees():
     ]
 
 
-def drawn_questions(g, weights):
-    return [Colours(g, 3, weights), Apart(g, weights), Watch(g, weights)]
+def drawn_questions(g, weights, costs, told):
+    """A question of each kind; of a graph without places there are no links to ask for."""
+    links = [Links(g, told, costs)] if told else []
+    return [Colours(g, 3, weights), Apart(g, weights), Watch(g, weights), Rounds(g, costs)] + links
+
+
+def drawn_amounts(chance, g):
+    """Weights, costs and told places for the questions."""
+    told = chance.sample(range(g[0]), min(g[0], chance.randint(1, 3)))
+    return [[chance.randint(0, 9) for v in range(g[0])], [chance.randint(0, 9) for tie in g[1]], told]
 
 
 class Own(unittest.TestCase):
@@ -132,39 +145,58 @@ class Own(unittest.TestCase):
 
     def test_questions(self):
         chance = random.Random(3)
-        for g, rows in drawn_worlds(3, 25, 6, 8, 4):
+        for g, rows in drawn_worlds(3, 15, 6, 8, 4) + dense_worlds(3, 5, 4, 5, 3, 1):
             steps = drawn_steps(chance, g, rows)
-            weights = [chance.randint(0, 9) for v in range(g[0])]
-            for kind in range(3):
+            amounts = drawn_amounts(chance, g)
+            for kind in range(len(drawn_questions(g, *amounts))):
                 for asked in (tables, trail):
-                    check_own(self, lambda g, steps, weights: asked(steps, drawn_questions(g, weights)[kind]),
-                              copy.deepcopy(g), list(steps), list(weights))
-                check_own(self, lambda g, rows, weights: answer(rows, drawn_questions(g, weights)[kind]),
-                          copy.deepcopy(g), copy.deepcopy(rows), list(weights))
+                    check_own(self, lambda g, steps, amounts: asked(steps, drawn_questions(g, *amounts)[kind]),
+                              copy.deepcopy(g), list(steps), copy.deepcopy(amounts))
+                check_own(self, lambda g, rows, amounts: answer(rows, drawn_questions(g, *amounts)[kind]),
+                          copy.deepcopy(g), copy.deepcopy(rows), copy.deepcopy(amounts))
 
     def test_one_question_asked_again(self):
         chance = random.Random(4)
-        for g, rows in drawn_worlds(4, 25, 6, 8, 4):
+        for g, rows in drawn_worlds(4, 15, 6, 8, 4) + dense_worlds(4, 5, 4, 5, 3, 1):
             steps = drawn_steps(chance, g, rows)
-            for question in drawn_questions(g, [chance.randint(0, 9) for v in range(g[0])]):
+            for question in drawn_questions(g, *drawn_amounts(chance, g)):
                 for asked in (tables, trail):
                     check_own(self, lambda steps: asked(steps, question), list(steps))
                 check_own(self, lambda rows: answer(rows, question), copy.deepcopy(rows))
 
-    def test_a_question_keeps_its_graph_and_weights(self):
-        for kind in range(3):
-            g, weights = (3, [(0, 1), (1, 2)]), [4, 5, 6]
-            rows = [(None, [0, 1]), (0, [1, 2])]
+    def test_a_question_keeps_its_graph_and_what_goes_with_it(self):
+        for kind in range(5):
+            g, amounts = (3, [(0, 1), (0, 2), (1, 2)]), [[4, 5, 6], [7, 8, 9], [2, 0]]
+            rows = [(None, [0, 1, 2])]
             steps = steps_of(g, rows)
-            question = drawn_questions(g, weights)[kind]
+            question = drawn_questions(g, *amounts)[kind]
             before = (answer(rows, question), tables(steps, question), trail(steps, question))
-            self.assertEqual((g, weights), ((3, [(0, 1), (1, 2)]), [4, 5, 6]))
-            g[1].append((0, 2))
-            weights[1] = 0
+            self.assertEqual((g, amounts), ((3, [(0, 1), (0, 2), (1, 2)]), [[4, 5, 6], [7, 8, 9], [2, 0]]))
+            g[1].pop()
+            amounts[0][1] = 0
+            amounts[1][1] = 100
+            amounts[2][1] = 1
             self.assertEqual((answer(rows, question), tables(steps, question), trail(steps, question)), before)
             spoil(g)
-            spoil(weights)
+            spoil(amounts)
             self.assertEqual((answer(rows, question), tables(steps, question), trail(steps, question)), before)
+
+    def test_texts(self):
+        names = ["a", "b", "c"]
+        for text in ("-:", "-: c a; 0: b", "7: b; -: a"):
+            check_own(self, read_bags, list(names), text)
+            check_own(self, show_bags, list(names), read_bags(names, text))
+        check_own(self, show_bags, [], [(None, [])])
+        self.assertEqual([read_number("12"), read_number("12")], [12, 12])
+
+    def test_desk(self):
+        desk = Desk()
+        for row in ("place a 1", "place b 2", "place c 3", "tie a b 1", "tie b c 2", "tie a c 4"):
+            desk.say(row)
+        rows = ["width", "bags", "family", "wood", "four", "colours 3", "apart", "watch", "link a c", "round"]
+        before = [desk.say(row) for row in rows]
+        self.assertEqual([desk.say(row) for row in rows[::-1]], before[::-1])
+        self.assertEqual([desk.say(row) for row in rows], before)
 
     def test_two_questions_of_one_graph(self):
         g, weights = (2, [(0, 1)]), [4, 5]
